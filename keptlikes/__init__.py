@@ -1,0 +1,1 @@
+"""Keptlikes: doubles struck by a nearness that does not pass on."""
