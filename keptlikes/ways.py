@@ -1,7 +1,9 @@
 """The six ways of striking doubles, applied to one order of arrival.
 
-Each rule is given a heap and an order of all its things, which are both known
-to be right, and returns a list of the things that are kept, in any sequence.
+Each step is given a heap, the things that have arrived, those of them that are
+kept, and the thing that arrives next. It returns the things that are kept then,
+in any sequence, and looks at nothing else: how the things before it came to be
+kept or struck does not matter to it.
 """
 
 from keptlikes.checks import check_order
@@ -15,68 +17,68 @@ def near_ones(heap, thing, others):
     return [other for other in others if other in near]
 
 
-def keep_first(heap, order):
-    """Keep what is near no thing that is kept when it arrives."""
-    held = []
-    for thing in order:
-        if not near_ones(heap, thing, held):
-            held.append(thing)
+def step_first(heap, arrived, held, thing):
+    """Keep the thing unless it is near one that is kept."""
+    if near_ones(heap, thing, held):
+        return held
+    return [*held, thing]
+
+
+def step_earlier(heap, arrived, held, thing):
+    """Keep the thing unless it is near one that has arrived, kept or not."""
+    if near_ones(heap, thing, arrived):
+        return held
+    return [*held, thing]
+
+
+def step_newest(heap, arrived, held, thing):
+    """Keep the thing, and strike the kept ones near it."""
+    rivals = near_ones(heap, thing, held)
+    return [other for other in held if other not in rivals] + [thing]
+
+
+def step_better(heap, arrived, held, thing):
+    """Keep the thing if it is better than all kept ones near it, and strike these."""
+    rivals = near_ones(heap, thing, held)
+    if all([heap.worths[thing] > heap.worths[rival] for rival in rivals]):
+        return step_newest(heap, arrived, held, thing)
     return held
 
 
-def keep_earlier(heap, order):
-    """Keep what is near no thing that arrived before it, kept or not."""
-    return [thing for place, thing in enumerate(order) if not near_ones(heap, thing, order[:place])]
+def step_lots(heap, arrived, held, thing):
+    """Keep the thing if it is the first one of its lot."""
+    mates = [other for lot in heap.lots if thing in lot for other in lot]
+    if any([other in mates for other in arrived]):
+        return held
+    return [*held, thing]
 
 
-def keep_newest(heap, order):
-    """Keep what arrives, and strike the kept things near it."""
-    held = []
-    for thing in order:
-        rivals = near_ones(heap, thing, held)
-        held = [other for other in held if other not in rivals] + [thing]
-    return held
-
-
-def keep_better(heap, order):
-    """Keep what is better than all kept things near it, and strike these."""
-    held = []
-    for thing in order:
-        rivals = near_ones(heap, thing, held)
-        if all([heap.worths[thing] > heap.worths[rival] for rival in rivals]):
-            held = [other for other in held if other not in rivals] + [thing]
-    return held
-
-
-def keep_best(heap, order):
-    """Do as with first, but better things first; sorting leaves equal ones as they arrived."""
-    return keep_first(heap, sorted(order, key=lambda thing: -heap.worths[thing]))
-
-
-def keep_lots(heap, order):
-    """Keep the first of the best things of each lot; max takes the first of equal ones."""
-    held = []
-    for lot in heap.lots:
-        arrived = [thing for thing in order if thing in lot]
-        held.append(max(arrived, key=lambda thing: heap.worths[thing]))
-    return held
-
-
-RULES = {
-    "first": keep_first,
-    "earlier": keep_earlier,
-    "newest": keep_newest,
-    "better": keep_better,
-    "best": keep_best,
-    "lots": keep_lots,
+STEPS = {
+    "first": step_first,
+    "earlier": step_earlier,
+    "newest": step_newest,
+    "better": step_better,
+    "best": step_first,
+    "lots": step_lots,
 }
+
+# These ways take the things as if better ones had arrived first.
+SORTING = ("best", "lots")
 
 
 def check_way(way):
     """Raise InvalidWay unless this is one of the six words."""
     # Other values may have no hash, so they are never looked up in the table.
-    if not isinstance(way, str) or way not in RULES:
+    if not isinstance(way, str) or way not in STEPS:
         raise InvalidWay(way)
+
+
+def in_sequence(heap, way, order):
+    """The things in the sequence in which the way takes them."""
+    if way not in SORTING:
+        return order
+    # Sorting leaves things of equal worth as they arrived.
+    return tuple(sorted(order, key=lambda thing: -heap.worths[thing]))
 
 
 def kept(heap, way, order):
@@ -84,5 +86,16 @@ def kept(heap, way, order):
     check_heap(heap)
     check_way(way)
     check_order(order, len(heap))
-    rule = RULES[way]
-    return tuple(sorted(rule(heap, order)))
+    step = STEPS[way]
+    sequence = in_sequence(heap, way, order)
+    held = []
+    for place, thing in enumerate(sequence):
+        held = step(heap, sequence[:place], held, thing)
+    return tuple(sorted(held))
+
+
+def kept_among(heap, way, order):
+    """The set of the things that the way keeps if only those of this order count."""
+    things = tuple(sorted(order))
+    places = [things.index(thing) for thing in order]
+    return tuple([things[place] for place in kept(heap.only(things), way, tuple(places))])

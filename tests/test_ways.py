@@ -8,53 +8,13 @@ from keptlikes.errors import InvalidOrder, InvalidWay, NotAHeap
 from keptlikes.heaps import Heap
 from keptlikes.ways import kept
 from tests.helpers import Equal, ErrorCase, Refusing, all_graphs, all_pairs, deep, strange_values
+from tests.oracle import WAYS, by_the_document
 
-WAYS = ("first", "earlier", "newest", "better", "best", "lots")
 LARGE = 10 ** 20 - 1
 
 
 def path():
     return Heap((1, 2, 3), ((0, 1), (1, 2)))
-
-
-def by_the_document(worths, pairs, way, order):
-    """What point 8 says, arrival by arrival, with the things that are kept as a set."""
-    near = {(i, j) for i, j in pairs} | {(j, i) for i, j in pairs}
-    if way == "best":
-        sequence = sorted((-worths[thing], place, thing) for place, thing in enumerate(order))
-        return by_the_document(worths, pairs, "first", [thing for _, _, thing in sequence])
-    if way == "lots":
-        return tuple(sorted(best_of_lot(thing, worths, near, order) for thing in lot_heads(near, order)))
-    held, arrived = set(), set()
-    for thing in order:
-        rivals = {other for other in held if (other, thing) in near}
-        if way == "earlier":
-            enters = not any((other, thing) in near for other in arrived)
-        elif way == "better":
-            enters = not any(worths[rival] >= worths[thing] for rival in rivals)
-        else:
-            enters = way == "newest" or not rivals
-        if enters:
-            held = (held - rivals) | {thing}
-        arrived.add(thing)
-    return tuple(sorted(held))
-
-
-def lot_of(thing, near, order):
-    lot = {thing}
-    for _ in order:
-        lot |= {end for end in order for start in lot if (start, end) in near}
-    return lot
-
-
-def lot_heads(near, order):
-    return sorted({min(lot_of(thing, near, order)) for thing in order})
-
-
-def best_of_lot(thing, worths, near, order):
-    lot = lot_of(thing, near, order)
-    greatest = max(worths[other] for other in lot)
-    return [other for other in order if other in lot and worths[other] == greatest][0]
 
 
 class Example(unittest.TestCase):
