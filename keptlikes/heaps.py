@@ -30,8 +30,7 @@ class Heap:
         check_worths(worths)
         check_places(places, len(worths))
         check_reach(reach)
-        pairs = [(i, j) for i, j in all_pairs(len(worths)) if abs(places[i] - places[j]) <= reach]
-        return Heap(worths, tuple(pairs))
+        return Heap(worths, line_pairs(places, reach))
 
     @staticmethod
     def words(worths, words, most):
@@ -73,6 +72,11 @@ def check_heap(heap):
 def all_pairs(count):
     """All pairs (i, j) of so many things with i < j, in ascending order."""
     return [(i, j) for i in range(count) for j in range(i + 1, count)]
+
+
+def line_pairs(places, reach):
+    """The pairs of things whose places differ by at most the reach."""
+    return tuple([(i, j) for i, j in all_pairs(len(places)) if abs(places[i] - places[j]) <= reach])
 
 
 def are_alike(word, other, most):

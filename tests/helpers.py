@@ -4,7 +4,15 @@ import inspect
 import unittest
 from itertools import combinations
 
-from keptlikes.errors import InvalidName, InvalidOrder, InvalidSet, InvalidThing, InvalidWay, NotAHeap
+from keptlikes.errors import (
+    InvalidCount,
+    InvalidName,
+    InvalidOrder,
+    InvalidSet,
+    InvalidThing,
+    InvalidWay,
+    NotAHeap,
+)
 from keptlikes.heaps import Heap
 
 
@@ -59,6 +67,11 @@ def all_graphs(count):
     return [chosen for many in range(len(pairs) + 1) for chosen in combinations(pairs, many)]
 
 
+def all_sets(count):
+    """All ascending tuples of one or more of so many things."""
+    return [things for many in range(1, count + 1) for things in combinations(range(count), many)]
+
+
 def some_heaps():
     """Worths and pairs of heaps of 1 to 4 things, of many shapes and with many worths."""
     rows = [
@@ -105,12 +118,15 @@ def wrong_arguments():
     ]
     heaps = [3, "heap", (), (1, 2, 3), ((1, 2, 3), ((0, 1), (1, 2))), Heap, deep(15)]
     things = [3, 4, -1, 10 ** 20 - 1, "0", "", (0,), (), right, deep(15)]
+    counts = [0, -1, 10, 11, 10 ** 20 - 1, 1 - 10 ** 20, "3", "", (3,), (), right, deep(15)]
     return {
         "heap": (NotAHeap, heaps + odd),
         "way": (InvalidWay, ways + odd),
+        "other_way": (InvalidWay, ways + odd),
         "name": (InvalidName, names + odd),
         "order": (InvalidOrder, orders + odd),
         "thing": (InvalidThing, things + odd),
+        "count": (InvalidCount, counts + odd),
         "things": (InvalidSet, sets + odd),
         "part": (InvalidSet, [(0, 1, 2), *sets, *odd]),
     }

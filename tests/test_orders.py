@@ -7,14 +7,10 @@ from keptlikes.heaps import Heap
 from keptlikes.orders import always_kept, ever_kept, is_free, order_for, outcomes, sizes, two_orders
 from keptlikes.samples import sample_heap
 from keptlikes.ways import kept
-from tests.helpers import ErrorCase, all_pairs, larger_heaps, some_heaps
+from tests.helpers import ErrorCase, all_pairs, all_sets, larger_heaps, some_heaps
 from tests.oracle import WAYS, all_orders, all_outcomes, by_the_document
 
 OF_HEAP_AND_WAY = (outcomes, is_free, always_kept, ever_kept, sizes, two_orders)
-
-
-def all_sets(count):
-    return [things for many in range(1, count + 1) for things in combinations(range(count), many)]
 
 
 def is_an_order(order, count):
