@@ -44,10 +44,15 @@ PROPERTIES = {
 }
 
 
+def is_name(value):
+    """Whether the value is one of the three words for properties."""
+    # Other values may have no hash, so they are never looked up in the table.
+    return isinstance(value, str) and value in PROPERTIES
+
+
 def check_name(name):
     """Raise InvalidName unless this is one of the three words for properties."""
-    # Other values may have no hash, so they are never looked up in the table.
-    if not isinstance(name, str) or name not in PROPERTIES:
+    if not is_name(name):
         raise InvalidName(name)
 
 

@@ -66,10 +66,15 @@ STEPS = {
 SORTING = ("best", "lots")
 
 
+def is_way(value):
+    """Whether the value is one of the six words."""
+    # Other values may have no hash, so they are never looked up in the table.
+    return isinstance(value, str) and value in STEPS
+
+
 def check_way(way):
     """Raise InvalidWay unless this is one of the six words."""
-    # Other values may have no hash, so they are never looked up in the table.
-    if not isinstance(way, str) or way not in STEPS:
+    if not is_way(way):
         raise InvalidWay(way)
 
 
